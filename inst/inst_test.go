@@ -226,7 +226,8 @@ func encoding(i api.Inst) [8]byte {
 	return b
 }
 
-// eachInst calls f with every combination of parts in and next to their ranges.
+// eachInst calls f with every combination of Op, Fn, Dst, Src and Reg in and
+// next to their ranges, with some Off and Imm.
 func eachInst(f func(api.Inst)) {
 	for op := -1; op <= api.Ops; op++ {
 		for fn := -1; fn <= 16; fn++ {
